@@ -34,9 +34,14 @@ func TestP10_1Place(t *testing.T) {
 		{func(m *api.Machine, p *api.Pod) { p.Select = []api.Label{{Key: "app", Val: "y"}} }, api.NoSelect},
 		{func(m *api.Machine, p *api.Pod) { p.Select = []api.Label{{Key: "app", Val: "x"}, {Key: "b"}} }, api.NoSelect},
 		{func(m *api.Machine, p *api.Pod) { p.Terms = []api.Term{{Key: "n", Op: api.Above, Vals: []string{"6"}}} }, api.FitOk},
-		{func(m *api.Machine, p *api.Pod) { p.Terms = []api.Term{{Key: "n", Op: api.Exists}, {Key: "n", Op: api.Missing}} }, api.NoTerm},
+		{func(m *api.Machine, p *api.Pod) {
+			p.Terms = []api.Term{{Key: "n", Op: api.Exists}, {Key: "n", Op: api.Missing}}
+		}, api.NoTerm},
 		{func(m *api.Machine, p *api.Pod) { p.Bears = nil }, api.Tainted},
-		{func(m *api.Machine, p *api.Pod) { m.Taints[0].Effect = api.NoExecute; p.Bears[0].Effect = api.NoSchedule }, api.Tainted},
+		{func(m *api.Machine, p *api.Pod) {
+			m.Taints[0].Effect = api.NoExecute
+			p.Bears[0].Effect = api.NoSchedule
+		}, api.Tainted},
 		{func(m *api.Machine, p *api.Pod) { m.Taints[0].Effect = api.Prefer; p.Bears = nil }, api.FitOk},
 		{func(m *api.Machine, p *api.Pod) { m.Has = api.Res{} }, api.FitOk},
 	} {
