@@ -449,6 +449,70 @@ func TestP30_2DownNotAfterARefusedIncrease(t *testing.T) {
 	s.tickOnly("down tiny-1")
 }
 
+func TestP30_2DownNotInTheTickOfAnIncrease(t *testing.T) {
+	c := conf()
+	c.Use, c.Long = 500, 1
+	s := newScene(t, c, 1, nil, of("g", 0, 9), of("tiny", 0, 9))
+	want(t, s.w.Increase("tiny", 1), api.OK)
+	s.w.Pass()
+	want(t, s.w.Taint("tiny-1", api.Taint{Key: "a", Effect: api.NoSchedule}), api.OK)
+	s.add(pod("p", 900))
+	// The idle machine is noted in this tick.
+	s.tick("up g 1")
+	s.add(pod("q", 900))
+	s.tick("up g 1")
+	s.tick("down tiny-1")
+}
+
+func TestP30_2DownNotWhileAMachineIsDrained(t *testing.T) {
+	c := conf()
+	c.Use = 500
+	s := newScene(t, c, 1, nil, of("g", 0, 9))
+	want(t, s.w.Increase("g", 2), api.OK)
+	s.w.Pass()
+	s.ticks("down g-1", "delete g-1", "gone g-1, down g-2", "delete g-2", "gone g-2")
+}
+
+func TestP30_2DownForgetsTheIdleTime(t *testing.T) {
+	c := conf()
+	c.Use, c.Long = 500, 2
+	budgets := []api.Budget{{Name: "b", Match: []api.Label{{Key: "app", Val: "x"}}, Least: 1}}
+	s := newScene(t, c, 1, budgets, of("g", 0, 9))
+	want(t, s.w.Increase("g", 2), api.OK)
+	s.w.Pass()
+	s.add(pod("p", 100), pod("q", 900))
+	s.w.Pass()
+	s.ticks("", "")
+	s.tickOnly("down g-1")
+	want(t, s.w.DropPod("q"), api.OK)
+	// The draining ends at once; then the machine has to be idle for two ticks again.
+	s.tickOnly("stop g-1")
+	s.add(pod("q", 900))
+	s.w.Pass()
+	s.ticks("", "down g-1")
+}
+
+func TestP30_2UpRegardsWhereOtherPodsRun(t *testing.T) {
+	far := pod("far", 1)
+	far.Apart, far.Wide = far.Labels, true
+	g := of("g", 1, 9)
+	g.Like.Labels = []api.Label{{Key: "zone", Val: "z"}}
+	s := newScene(t, conf(), 1, nil, g)
+	s.add(pod("p", 900))
+	s.w.Pass()
+	s.add(far)
+	s.tick("hopeless far")
+}
+
+func TestP30_2HealthyAtTheLimit(t *testing.T) {
+	c := conf()
+	c.Share = 500
+	s := newScene(t, c, 1, nil, of("g", 2, 6))
+	want(t, s.w.Ready("g-1", false), api.OK)
+	s.add(pod("p", 900), pod("q", 900))
+	s.tick("up g 1")
+}
+
 func TestP30_2DownOnlyWithARecordedIdleTime(t *testing.T) {
 	c := conf()
 	c.Use, c.Long = 500, 2

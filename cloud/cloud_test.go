@@ -271,6 +271,11 @@ func TestP17_5Copy(t *testing.T) {
 	if c.Target("g") != 2 || d.Target("g") != 2 {
 		t.Error(c.Target("g"), d.Target("g"))
 	}
+	one := c.Copy()
+	want(t, one.Delete("g-2"), api.OK)
+	if c.Insts()[1].State != api.Failed || c.Target("g") != 2 {
+		t.Error("the copy shares its instances")
+	}
 	if e := d.Copy().Increase("g", 1); e != api.OK {
 		t.Error("a copy of a copy", e)
 	}

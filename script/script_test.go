@@ -182,6 +182,7 @@ func TestP31_2Run(t *testing.T) {
 	group := "(group g (size 0 2) (has 1 1Gi 0 5 0)) "
 	prints(t, head, "")
 	prints(t, head+"show", "")
+	prints(t, head+"(tick 100) show (tick 1)", "")
 	prints(t, head+group+"(pod a (need 500m 0 0 0)) (tick 2) show", "0: up g 1\ng-1: a\n")
 	prints(t, head+group+"(pod a (need 500m 0 0 0)) (pod b) (pod c (need 700m 0 0 0)) (pod d (need 2 0 0 0)) show (tick 3) show",
 		"pending: a b c d\n0: hopeless d\n0: up g 2\n1: hopeless d\n2: hopeless d\ng-1: a\ng-2: b c\npending: d\n")

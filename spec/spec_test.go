@@ -255,6 +255,7 @@ func TestP7_2RightPod(t *testing.T) {
 		func(p *api.Pod) { p.Terms, p.Bears, p.Ports, p.Labels = terms[:16], bears[:16], ports(16), labels(16) },
 		func(p *api.Pod) { p.Skew, p.Rank, p.Owner, p.Wide = 100, 0, "", false },
 		func(p *api.Pod) { p.Spread, p.Skew = nil, 0 },
+		func(p *api.Pod) { p.Apart, p.Wide, p.Skew = p.Apart[:1], true, 1 },
 	} {
 		p := wantPod()
 		change(&p)

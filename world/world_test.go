@@ -125,6 +125,9 @@ func TestP18_2AddPodAndDropPod(t *testing.T) {
 	want(t, w.AddPod(pod("p", 5)), api.ErrTwice)
 	want(t, w.DropPod("x"), api.ErrNone)
 	want(t, w.DropPod("g-1"), api.ErrNone)
+	want(t, w.DropPod("p"), api.OK)
+	shape(t, w, "g-1", "q")
+	want(t, w.AddPod(pod("p", 1)), api.OK)
 	w.Pass()
 	want(t, w.DropPod("p"), api.OK)
 	shape(t, w, "g-1", "q g-1")
@@ -150,6 +153,10 @@ func TestP18_3Ready(t *testing.T) {
 		t.Error("a Pass does not make it ready")
 	}
 	want(t, w.Ready("g-2", true), api.OK)
+	want(t, w.Ready("g-1", false), api.OK)
+	if w.Machines()[0].Ready {
+		t.Error("the first machine")
+	}
 	if !w.Machines()[1].Ready {
 		t.Error("ready again")
 	}
